@@ -71,3 +71,15 @@ def shorts_of(spans, guarantees, principal):
         if total > covered:
             shorts.extend([minute, later, total, covered])
     return shorts
+
+
+def first_leave(spans, guarantees, journey, minute):
+    """The first minute from this one on at which a journey that isn't out yet may leave, None if there's none."""
+    turns = turns_of(spans, begins_of(guarantees, journey.principal))
+    first = None
+    # Each turn behind must be covered too, so the first one short from the end on bars all before it.
+    for later in reversed([minute] + [turn for turn in turns if turn > minute]):
+        if sum_at(spans, later) + journey.share > guarantee_at(guarantees, journey.principal, later):
+            break
+        first = later
+    return first

@@ -45,12 +45,16 @@ RANGES = {
     "version": (1, 9),
     "told": (0, 4),
     "seal": (0, 9999),
+    "duration": (1, 1000000),
+    "choices": (1, 4),
+    "byte": (0, 255),
 }
 
 NEWS_NAMES = ("number", "version", "j", "o", "told", "t", "seal", "seal")
 MOST_NEWS = 10
 LEAST_OFFICES = 2
 MOST_OFFICES = 6
+MOST_BYTES = 1200
 
 
 class Call:
@@ -110,3 +114,8 @@ def is_news(row):
     if len(row) > MOST_NEWS * len(NEWS_NAMES):
         return False
     return fits(NEWS_NAMES * (len(row) // len(NEWS_NAMES)), row)
+
+
+def is_text(row):
+    """Whether the row is of bytes, as many as a letter may have."""
+    return len(row) <= MOST_BYTES and fits(("byte",) * len(row), row)

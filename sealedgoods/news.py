@@ -50,6 +50,11 @@ def by_numbers(known):
     return [known[number] for number in sorted(known)]
 
 
-def in_force(known, journey):
+def in_force(known):
+    """The news in force, by numbers."""
+    return [news for news in by_numbers(known) if news.told != NOTHING]
+
+
+def in_force_of(known, journey):
     """The news in force of the journey of this number, by numbers."""
-    return [news for news in by_numbers(known) if news.journey == journey and news.told != NOTHING]
+    return [news for news in in_force(known) if news.journey == journey]

@@ -102,10 +102,7 @@ def seal_between(route, news, later):
 def seals_of(route, way):
     """For each two news of the way of which neither tells 3: both offices, what the seals tell."""
     sealed = [news for news in way if news.told != CLEARED]
-    seals = []
-    for news, later in zip(sealed, sealed[1:]):
-        seals.extend([news.office, later.office, seal_between(route, news, later)])
-    return seals
+    return [(news.office, later.office, seal_between(route, news, later)) for news, later in zip(sealed, sealed[1:])]
 
 
 def come_by(way, minute):

@@ -20,6 +20,15 @@ def news(number, version=1, j=1, office=1, told=0, minute=0, found=0, left=0):
     return [number, version, j, office, told, minute, found, left]
 
 
+def close_news(chance, size):
+    """So many news of two journeys, close enough that many are of one number and version."""
+    return [
+        news(chance.randint(1, 6), chance.randint(1, 3), chance.randint(1, 2), chance.randint(1, 4),
+             chance.randint(0, 4), chance.randint(0, 3), chance.randint(0, 1), chance.randint(0, 1))
+        for k in range(size)
+    ]
+
+
 def tell_row(row):
     return [2, len(row), *row]
 
@@ -72,6 +81,85 @@ def overdue(t):
     return [13, t]
 
 
+def may(j, t):
+    return [14, j, t]
+
+
+def plan_row(row):
+    return [15, len(row), *row]
+
+
+def planned(money, out, minutes, hundredths=100):
+    return [money, hundredths, out, len(minutes), *minutes]
+
+
+def plan(*all_planned):
+    return plan_row([number for one in all_planned for number in one])
+
+
+def then(n, p, t):
+    return [16, n, p, t]
+
+
+def was(n, j, t):
+    return [17, n, j, t]
+
+
+def broken():
+    return [18]
+
+
+def journeys():
+    return [19]
+
+
+def text_call(number, text):
+    """A call whose row is a text, told as a str or as its numbers."""
+    row = [ord(sign) for sign in text] if isinstance(text, str) else list(text)
+    return [number, len(row), *row]
+
+
+def letter(text):
+    return text_call(20, text)
+
+
+def check(text):
+    return text_call(21, text)
+
+
+def printed():
+    return [22]
+
+
+def would(text):
+    return text_call(23, text)
+
+
+def at(o, t):
+    return [24, o, t]
+
+
+def road(t):
+    return [25, t]
+
+
+def when(j, t):
+    return [26, j, t]
+
+
+def counts():
+    return [27]
+
+
+def form_of(*told):
+    """These news as a letter in the one form."""
+    does = ("leaves", "passes", "arrives", "cleared", "nothing")
+    return " ".join(
+        "%d.%d journey %d %s at %d minute %d found %d left %d;" % (
+            one[0], one[1], one[2], does[one[4]], one[3], one[5], one[6], one[7])
+        for one in told)
+
+
 def split(flat):
     """The answers of a list of calls, one list each."""
     found = []
@@ -103,10 +191,12 @@ def row_of(answer, size):
     return [tuple(answer[k:k + size]) for k in range(2, len(answer), size)]
 
 
-# Whatever a refused call could have changed shows in one of these.
-STATE = (
+# Whatever a refused call could have changed shows in one of these; two lists, since a list has 60 calls at most.
+STATES = (
     [known()] + [way(j) for j in (1, 2, 3)] + [faults(1), keeper(1, 30), overdue(LAST)]
-    + [reserved(p, 30) for p in (1, 2, 6)] + [peak(1), shorts(1), shorts(2)]
+    + [reserved(p, 30) for p in (1, 2, 6)] + [peak(1), shorts(1), shorts(2)],
+    [counts(), journeys(), printed(), broken(), at(1, 30), at(4, 30), road(30), then(1, 1, 30), was(1, 1, 30),
+     may(2, 30), when(1, 0)],
 )
 
 
@@ -115,9 +205,10 @@ class DeskTest(unittest.TestCase):
 
     def check_refused(self, before, call, number):
         """The call is refused with that number behind those, and nothing is changed by it."""
-        answer = ask(*before, call, *STATE)
-        self.assertEqual(answer[len(before)], [number])
-        self.assertEqual(answer[len(before) + 1:], ask(*before, *STATE)[len(before):])
+        for state in STATES:
+            answer = ask(*before, call, *state)
+            self.assertEqual(answer[len(before)], [number])
+            self.assertEqual(answer[len(before) + 1:], ask(*before, *state)[len(before):])
 
     def check_range(self, before, make, low, high):
         """make(number) is taken from low to high, and refused with -1 beyond."""
@@ -125,3 +216,12 @@ class DeskTest(unittest.TestCase):
             self.assertEqual(last(*before, make(number))[0], 0, number)
         for number in (low - 1, high + 1, -FAR, FAR):
             self.check_refused(before, make(number), -1)
+
+    def check_journey_range(self, before, make, told):
+        """make(j) is taken for the first and the last journey told, refused with -3 up to 99, with -1 beyond."""
+        for j in (1, told):
+            self.assertEqual(last(*before, make(j))[0], 0, j)
+        for j in (told + 1, 99):
+            self.check_refused(before, make(j), -3)
+        for j in (0, 100, -FAR, FAR):
+            self.check_refused(before, make(j), -1)

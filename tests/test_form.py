@@ -26,6 +26,7 @@ WORDS = re.compile(
     r"\b(type|typing|typing_extensions|enum|Enum|IntEnum|StrEnum|Flag|IntFlag|Generic|Protocol|ABC|ABCMeta|namedtuple"
     r"|NamedTuple|TypedDict|TYPE_CHECKING|abstractmethod)\b|dataclass|overload|contextmanager")
 PYTHONS = {name for kind in (str, int, list, dict, set, bytes, tuple) for name in dir(kind)}
+CHANGES = set("append clear extend insert pop remove reverse setdefault update".split())
 WALKED = {"zip", "enumerate", "reversed", "range", "items", "keys", "values"}
 WALKERS = {"list", "tuple", "dict", "sorted", "sum", "any", "all", "enumerate", "zip", "min", "max", "join"}
 KEYWORDS = {
@@ -160,6 +161,8 @@ def expression_faults(tree):
             yield "L7", node
         if isinstance(node, ast.Constant) and isinstance(node.value, (float, bytes, complex)):
             yield "L7", node
+        if isinstance(node, ast.FormattedValue) and not (isinstance(node.value, ast.Name) and node.format_spec is None):
+            yield "L7", node
         if isinstance(node, ast.Constant) and isinstance(node.value, str) and "%" in node.value:
             yield "L27", node
         if isinstance(node, ast.BinOp) and isinstance(node.op, ast.Pow) and not isinstance(node.right, ast.Constant):
@@ -204,6 +207,39 @@ def walk_faults(tree):
                 yield "L24", node
 
 
+def loop_faults(tree):
+    """L23: what a loop walks is not changed in it."""
+    for loop in ast.walk(tree):
+        if not isinstance(loop, ast.For):
+            continue
+        # A list(..), sorted(..) or sum of lists is another list than the one it's made from.
+        through = [loop.iter] + (list(loop.iter.args) if called(loop.iter) in ("enumerate", "zip", "reversed") else [])
+        through += [loop.iter.func.value] if called(loop.iter) in ("items", "keys", "values") else []
+        walked = {ast.unparse(part) for part in through if isinstance(part, (ast.Name, ast.Attribute))}
+        for node in [node for part in loop.body for node in ast.walk(part)]:
+            if isinstance(node, ast.Call) and isinstance(node.func, ast.Attribute) and node.func.attr in CHANGES:
+                if ast.unparse(node.func.value) in walked:
+                    yield "L23", node
+            if isinstance(node, ast.Subscript) and isinstance(node.ctx, ast.Store) and ast.unparse(node.value) in walked:
+                yield "L23", node
+
+
+def kept_faults(tree):
+    """L15: a list or dict of the file's top is only read by the defs."""
+    kept = {
+        node.targets[0].id for node in tree.body if isinstance(node, ast.Assign) and isinstance(node.value, (ast.List, ast.Dict))
+    }
+    above = parents(tree)
+    for node in ast.walk(tree):
+        if isinstance(node, ast.Name) and node.id in kept and isinstance(node.ctx, ast.Load):
+            where = above[node]
+            indexed = isinstance(where, ast.Subscript) and where.value is node and isinstance(where.ctx, ast.Load)
+            walked = isinstance(where, (ast.For, ast.comprehension, ast.Compare))
+            read = isinstance(where, ast.Attribute) and where.attr in ("get", "items", "keys", "values", "index", "count")
+            if not (indexed or walked or read or called(where) in ("len", "list", "dict", "sorted", "tuple")):
+                yield "L15", node
+
+
 def class_faults(trees):
     """L18, L26: names of methods and values over the whole package."""
     methods, values = {}, {}
@@ -239,7 +275,7 @@ def faults_of(text):
     """The rules that this file's text breaks."""
     tree = ast.parse(text)
     found = list(text_faults(text))
-    for check in (top_faults, name_faults, def_faults, expression_faults, walk_faults):
+    for check in (top_faults, name_faults, def_faults, expression_faults, walk_faults, loop_faults, kept_faults):
         found += [rule for rule, node in check(tree)]
     return found + [rule for rule, node in class_faults([tree])]
 
@@ -299,6 +335,9 @@ class FormTest(unittest.TestCase):
             ("L15", "def f(next):\n    pass\n"), ("L15", "X = [[1]]\n"), ("L17", "# a type\n"), ("L17", "def f(x):\n    x.open()\n"),
             ("L18", "class A:\n    def b(self):\n        self.b = 1\n"), ("L19", "def f():\n    try:\n        f()\n    except Exception:\n        f()\n"),
             ("L20", "def f(x, y):\n    return x is y\n"), ("L21", "def f(x: int):\n    return x\n"), ("L22", "def f(x):\n    return int(x, base=2)\n"),
+            ("L7", "def f(x):\n    return f'{x.y}'\n"), ("L7", "def f(x):\n    return f'{x:d}'\n"),
+            ("L23", "def f(x):\n    for y in x:\n        x.append(y)\n"), ("L23", "def f(x):\n    for y, z in enumerate(x):\n        x[y] = z\n"),
+            ("L15", "X = [1]\ndef f():\n    X.append(1)\n"), ("L15", "X = {1: 2}\ndef f():\n    X[1] = 2\n"), ("L15", "X = [1]\ndef f():\n    return X\n"),
             ("L23", "def f(x):\n    y = zip(x, x)\n"), ("L24", "def f(x):\n    y = set(x)\n"), ("L25", "def f(x):\n    x.sort()\n"),
             ("L26", "class A:\n    def __init__(self):\n        self.items = 1\n"), ("L27", "X = '%d'\n"), ("L27", "def f(n):\n    return 2 ** n\n"),
             ("L28", "class A:\n    def __len__(self):\n        return 1\n"),

@@ -4,7 +4,7 @@ import itertools
 import random
 import unittest
 
-from tests.helper import DeskTest, FAR, LAST, ask, journey, known, last, news, tell, tell_row, way
+from tests.helper import DeskTest, FAR, LAST, ask, close_news, journey, known, last, news, tell, tell_row, way
 
 ROW = [7, 3, 1, 2, 1, 50, 60, 70]
 # Where a row's numbers stand, from which number to which each may go.
@@ -184,11 +184,7 @@ class FirstPromiseTest(DeskTest):
     def test_the_same_is_known_of_many_news_in_many_orders(self):
         chance = random.Random(1)
         for again in range(60):
-            told = [
-                news(chance.randint(1, 6), chance.randint(1, 3), chance.randint(1, 2), chance.randint(1, 4),
-                     chance.randint(0, 4), chance.randint(0, 3), chance.randint(0, 1), chance.randint(0, 1))
-                for k in range(24)
-            ]
+            told = close_news(chance, 24)
             best = {}
             for row in sorted(told):
                 best[row[0]] = row
