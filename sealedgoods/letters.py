@@ -39,12 +39,15 @@ def can_stand(step, token):
     return token.value == step[1]
 
 
-def step_fault(step, token):
-    """The fault of the token at this step of a news."""
+def step_fault(step, token, is_full):
+    """The fault of the token at this step of a news; of a news behind the last one if the letter is full."""
     if token.kind == WRONG_TOKEN:
         return WRONG_HERE
     if not can_stand(step, token):
         return CANNOT_STAND
+    # Ahead of the range: where no number may stand at all, there's none that it could be in.
+    if is_full:
+        return ONE_TOO_MANY
     if step[0] == "number" and not in_range(step[1], token.value):
         return OUT_OF_RANGE
     return NO_FAULT
@@ -75,9 +78,8 @@ def read_letter(text):
     step = 0
     token = token_at(text, 0)
     while step != 0 or token.kind != TEXT_END:
-        fault = step_fault(STEPS[step], token)
-        if fault == NO_FAULT and step == 0 and len(values) == MOST_NEWS * len(NEWS_NAMES):
-            fault = ONE_TOO_MANY
+        is_full = step == 0 and len(values) == MOST_NEWS * len(NEWS_NAMES)
+        fault = step_fault(STEPS[step], token, is_full)
         if fault != NO_FAULT:
             return Letter([], fault, token.place)
         values.extend(values_of(STEPS[step], token))

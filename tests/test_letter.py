@@ -213,10 +213,28 @@ class CheckTest(DeskTest):
         ten = lines_of(10)
         for token, fault in (("#", 1), ("01", 1), ("abcdefghi", 1), (";", 2), (".", 2), ("journey", 2)):
             self.check_fault(ten + " " + token, fault, len(ten) + 1)
-        # Its first number is looked at as any other: out of its range goes before one too many.
-        for token in ("0", "1000", "9999999999"):
-            self.check_fault(ten + token, 3, len(ten))
-        self.check_fault(lines_of(9) + " 10.0", 3, len(lines_of(9)) + 4)
+
+    def test_an_eleventh_news_whatever_its_first_number(self):
+        ten = lines_of(10)
+        for number in ("0", "1", "999", "1000", "1000000001", "9999999999"):
+            for behind in ("", " ", ".1 journey 1 leaves at 1 minute 0 found 0 left 0;", ".0", ";", " #", "at", " 01"):
+                self.check_fault(ten + number + behind, 7, len(ten))
+                self.check_fault(ten + "\n " + number + behind, 7, len(ten) + 2)
+
+    def test_up_to_the_tenth_news_a_number_is_looked_at_for_its_range(self):
+        for size in range(10):
+            before = lines_of(size)
+            for number in ("0", "1000", "9999999999"):
+                self.check_fault(before + number, 3, len(before))
+        for place, low, high in NUMBERS:
+            text, fault, at = self.fault_at(place, str(high + 1), 3)
+            self.check_fault(lines_of(9) + text, fault, len(lines_of(9)) + at)
+            self.check_fault(lines_of(9) + text + lines_of(2), fault, len(lines_of(9)) + at)
+
+    def test_what_ends_the_tenth_news(self):
+        begun = lines_of(10)[:-1]
+        for token, fault in (("", 2), ("11", 2), ("1000", 2), (".", 2), ("#", 1), ("00", 1)):
+            self.check_fault(begun + " " + token, fault, len(begun) + 1)
 
     def test_the_same_news_ten_times(self):
         self.check_right(" ".join([TEXT] * 10), *[ROW] * 10)

@@ -45,12 +45,12 @@ def read_text(text):
         if isinstance(step, tuple):
             if not token.isdigit():
                 return None, (2, place)
+            if not one and len(news) == 10:
+                return None, (7, place)
             if not step[1] <= int(token) <= step[2]:
                 return None, (3, place)
         elif token not in (DOES if step == "does" else [step]):
             return None, (2, place)
-        if not one and len(news) == 10:
-            return None, (7, place)
         one.append(token)
         if len(one) == len(GRAMMAR):
             news.append([int(one[k]) for k in (0, 2, 4, 7)] + [DOES.index(one[5])] + [int(one[k]) for k in (9, 11, 13)])
@@ -422,6 +422,8 @@ class Lists:
         for k in range(pick.choice((0, 1, 1, 2, 3, 9, 10, 10, 11)) if pick.random() < 0.3 else pick.randint(0, 4)):
             text = form_of(self.one_news())
             tokens += re.findall("[a-z]+|[0-9]+|[.;]", text)
+        if len(tokens) > 10 * len(GRAMMAR) and pick.random() < 0.5:
+            tokens[10 * len(GRAMMAR)] = pick.choice(("0", "1", "999", "1000", "9999999999", "00", "10000000000", ";", "at", "#"))
         if tokens and pick.random() < 0.25:
             tokens[pick.randrange(len(tokens))] = pick.choice(
                 ("at", "7", "0", "01", "10000000000", "9999999999", "100", "1000", ";", ".", "", "#", "abcdefgh", "abcdefghi", "left"))
